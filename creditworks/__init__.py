@@ -1,0 +1,1 @@
+"""Creditworks: things whose dear deeds are paid for ahead."""

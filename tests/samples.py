@@ -1,0 +1,8 @@
+"""Values that several tests hand in."""
+
+COUNTS = (0, 1, 2, 3, 2 ** 64, 10 ** 59, 10 ** 60 - 1)
+
+# None stands beside these where it is refused too: as a credit it tells that there is none told.
+NO_COUNTS = (True, False, -1, -2, -10 ** 59, "", "0", "1", "none", [], [0], [1, 2], (), (0,), (1, 2),
+             {}, {0: 1}, 0.0, 1.0, -0.5, float("inf"), float("nan"), 1j, b"1", set(), {1}, frozenset(), range(3),
+             object(), int, len, ValueError("1"))
