@@ -25,6 +25,11 @@ UNUSED_NAMES = set("""register mro elements open input version_info with_traceba
     attrgetter breakpoint builtins compile copyright credits delattr dir eval exec exit gc getattr globals hasattr
     help id importlib license locals methodcaller os quit setattr super vars sys chr""".split())
 DUNDERS = ("__init__", "__eq__", "__repr__", "__str__", "__len__")
+METHODS = set("""append clear copy count endswith extend find get index insert isalnum isalpha isdigit islower isspace
+    isupper items join keys ljust lower lstrip partition pop remove replace reverse rfind rjust rpartition rsplit
+    rstrip setdefault split splitlines startswith strip update upper values zfill bit_length""".split())
+WALKED = ("zip", "enumerate", "reversed", "range")
+WALKERS = ("list", "tuple", "dict", "sorted", "sum", "any", "all", "enumerate", "zip", "min", "max")
 
 
 def package_files():
@@ -38,6 +43,27 @@ def text_of(name):
 
 def trees():
     return [(name, ast.parse(text_of(name))) for name in package_files()]
+
+
+def own_methods():
+    return {part.name for name, tree in trees() for node in ast.walk(tree) if isinstance(node, ast.ClassDef)
+            for part in node.body if isinstance(part, ast.FunctionDef)}
+
+
+def called(node):
+    return node.func.id if isinstance(node, ast.Call) and isinstance(node.func, ast.Name) else None
+
+
+def bound_at_top(tree):
+    told = []
+    for part in tree.body:
+        if isinstance(part, (ast.FunctionDef, ast.ClassDef)):
+            told.append(part.name)
+        elif isinstance(part, ast.ImportFrom):
+            told.extend(alias.name for alias in part.names)
+        elif isinstance(part, ast.Assign):
+            told.extend(target.id for target in part.targets)
+    return told
 
 
 def names_in(tree):
@@ -98,6 +124,8 @@ class Forms(unittest.TestCase):
             self.assertFalse(isinstance(node.value, str) and "%" in node.value, where)
         if isinstance(node, ast.BinOp):
             self.assertNotIsInstance(node.op, (ast.Div, ast.MatMult), where)
+            if isinstance(node.op, ast.Pow):
+                self.assertIsInstance(node.right, ast.Constant, where)
         if isinstance(node, ast.Compare) and isinstance(node.ops[0], (ast.Is, ast.IsNot)):
             self.assertIn(ast.unparse(node.comparators[0]), ("None", "True", "False"), where)
         if isinstance(node, ast.Try):
@@ -112,6 +140,33 @@ class Forms(unittest.TestCase):
             for node in ast.walk(tree):
                 if isinstance(node, ast.Expr) and node is not tree.body[0]:
                     self.assertIsInstance(node.value, ast.Call, (name, node.lineno))
+
+    def test_walked_at_once(self):
+        for name, tree in trees():
+            walked = []
+            for node in ast.walk(tree):
+                if isinstance(node, (ast.For, ast.comprehension)):
+                    walked.append(node.iter)
+                elif called(node) in WALKERS and node.args:
+                    walked.extend(node.args if called(node) == "zip" else node.args[:1])
+            for node in ast.walk(tree):
+                if called(node) in WALKED:
+                    self.assertIn(node, walked, (name, node.lineno))
+
+    def test_what_stands_at_the_top(self):
+        for name, tree in trees():
+            for part in tree.body[1:]:
+                self.assertIsInstance(part, (ast.ImportFrom, ast.FunctionDef, ast.ClassDef, ast.Assign), name)
+                if isinstance(part, ast.Assign):
+                    for node in ast.walk(part.value):
+                        self.assertNotIsInstance(node, (ast.Call, ast.Set, ast.Lambda), (name, part.lineno))
+
+    def test_errors_taken_are_named(self):
+        for name, tree in trees():
+            for node in ast.walk(tree):
+                if isinstance(node, ast.ExceptHandler):
+                    self.assertIsNotNone(node.type, (name, node.lineno))
+                    self.assertNotIn(ast.unparse(node.type), ("Exception", "TypeError"), (name, node.lineno))
 
     def test_parameters(self):
         for name, tree in trees():
@@ -156,6 +211,41 @@ class Names(unittest.TestCase):
                     self.assertEqual((package, dot), (PACKAGE, "."), name)
                     for alias in node.names:
                         self.assertIn(alias.name, defined[module], name)
+
+    def test_no_two_files_draw_from_one_another(self):
+        drawn = {name[:-3]: [node.module.partition(".")[2] for node in tree.body if isinstance(node, ast.ImportFrom)]
+                 for name, tree in trees()}
+        while drawn:
+            free = [name for name in drawn if not any(other in drawn for other in drawn[name])]
+            self.assertNotEqual(free, [], sorted(drawn))
+            for name in free:
+                drawn.pop(name)
+
+    def test_each_name_is_bound_once_at_the_top(self):
+        for name, tree in trees():
+            bound = bound_at_top(tree)
+            self.assertEqual(len(bound), len(set(bound)), name)
+
+    def test_no_local_is_called_like_a_name_of_the_top_or_of_pythons_own(self):
+        for name, tree in trees():
+            taken = set(bound_at_top(tree)) | set(dir(builtins))
+            for part in ast.walk(tree):
+                if isinstance(part, (ast.FunctionDef, ast.Lambda, ast.ListComp)):
+                    for node in ast.walk(part):
+                        if isinstance(node, ast.arg):
+                            self.assertNotIn(node.arg, taken, (name, node.lineno))
+                        if isinstance(node, ast.Name) and isinstance(node.ctx, ast.Store):
+                            self.assertNotIn(node.id, taken, (name, node.lineno))
+
+    def test_methods_are_listed_or_the_packages_own_and_called_on_the_spot(self):
+        methods = own_methods()
+        for name, tree in trees():
+            called_ones = [node.func for node in ast.walk(tree) if isinstance(node, ast.Call)]
+            for node in ast.walk(tree):
+                if isinstance(node, ast.Attribute) and node in called_ones:
+                    self.assertIn(node.attr, METHODS | methods, (name, node.lineno))
+                elif isinstance(node, ast.Attribute):
+                    self.assertNotIn(node.attr, METHODS | methods, (name, node.lineno))
 
     def test_no_name_is_a_method_and_a_value(self):
         methods, values = set(), set()
