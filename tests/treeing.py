@@ -118,3 +118,37 @@ def part_of(tree, key):
 def numbers_about(tree):
     keys = sorted_keys(tree)
     return sorted({number for key in keys for number in (key - 1, key, key + 1)} | {-10 ** 59, 0, 10 ** 60 - 1})
+
+
+# Lifting and turning as point [18] writes them, from the whole tree down.
+def lift(tree, key):
+    left, up, right = tree[:3]
+    if left is not None and left[1] == key:
+        return made(left[0], key, made(left[2], up, right))
+    if right is not None and right[1] == key:
+        return made(made(left, up, right[0]), key, right[2])
+    if key < up:
+        return made(lift(left, key), up, right)
+    return made(left, up, lift(right, key))
+
+
+def plain_turning(tree, key):
+    way = plain_way(tree, key)
+    if len(way) == 2:
+        return ("single", lift(tree, key))
+    above, highest = way[-2], way[-3]
+    if (key < above) == (above < highest):
+        return ("straight", lift(lift(tree, above), key))
+    return ("bent", lift(lift(tree, key), key))
+
+
+def plain_trail(tree, key):
+    trail = []
+    while tree is not None and tree[1] != key:
+        trail.append(plain_turning(tree, key))
+        tree = trail[-1][1]
+    return trail
+
+
+def bits(number):
+    return len(bin(number)) - 2 if number > 0 else 0
