@@ -1,5 +1,7 @@
 """A number, also below nought, kept by a list of -1, 0 and 1, the least place first, the last one not 0."""
 
+from creditworks.counters import row_worth
+
 
 def figures_up(row):
     return moved_by(row, 1)
@@ -28,11 +30,9 @@ def moved_by(row, by):
     return (moved, steps)
 
 
+# A place counts as it does in a counter, whichever figure stands there.
 def figures_worth(row):
-    worth = 0
-    for figure in reversed(row):
-        worth = 2 * worth + figure
-    return worth
+    return row_worth(row)
 
 
 def figures_credit(row):

@@ -18,6 +18,10 @@ def standing(held, name):
     return (held[name][0], name)
 
 
+def as_top(row):
+    return (row[0], None, False, row[3])
+
+
 def pile_in_form(pile):
     tops = pile[0]
     held = pile[1]

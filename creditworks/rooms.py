@@ -5,6 +5,10 @@ from creditworks.errors import Empty
 LEAST_SIZE = 4
 
 
+def no_room():
+    return ([], LEAST_SIZE)
+
+
 def room_put(room, thing):
     things = room[0]
     size = room[1]

@@ -14,3 +14,12 @@ THINGS = (0, 1, -1, 7, 7, 10 ** 60 - 1, -(10 ** 60 - 1), "", "a", "a b", "~" * 6
 # What is no whole number at all, and so neither a thing nor a place.
 NO_NUMBERS = (True, False, None, "", "0", "1", "none", [], [0], [1, 2], (), (0,), (1, 2), {}, {0: 1}, 0.0, 1.0,
               float("inf"), float("nan"), 1j, b"1", set(), {1}, frozenset(), range(3), object(), int, len)
+
+
+# Does to all lists of an answer what its asker may do.
+def spoil(told):
+    for part in told:
+        if isinstance(part, list):
+            part.append("spoilt")
+        elif isinstance(part, tuple):
+            spoil(part)

@@ -7,7 +7,7 @@ import unittest
 from creditworks.doubles import double_credit, double_row, put_first, put_last, take_first, take_last
 from creditworks.errors import CreditError, Empty
 from creditworks.ledgers import Ledger
-from tests.samples import THINGS
+from tests.samples import THINGS, spoil
 
 
 def some_doubles():
@@ -154,19 +154,12 @@ class Keeping(DoubleCase):
         return (lambda handed: put_first(handed, 9), lambda handed: put_last(handed, 9), take_first, take_last,
                 lambda handed: (double_row(handed),))
 
-    def spoil(self, told):
-        for part in told:
-            if isinstance(part, list):
-                part.append("spoilt")
-            elif isinstance(part, tuple):
-                self.spoil(part)
-
     def test_told_lists_belong_to_the_asker(self):
         for double in (([1, 2], [3, 4]), ([], [3, 4, 5]), ([1, 2], []), ([6], [])):
             for deed in self.deeds():
                 handed = copy.deepcopy(double)
                 wanted = copy.deepcopy(deed(handed))
-                self.spoil(deed(handed))
+                spoil(deed(handed))
                 self.assertEqual(handed, double)
                 self.assertEqual(deed(handed), wanted)
 

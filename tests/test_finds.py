@@ -9,7 +9,7 @@ from creditworks.finds import find_price, find_top, join_groups, join_price, lin
 from creditworks.groups import begin_groups, groups_credit, thing_credit
 from creditworks.ledgers import Ledger
 from tests.grouping import all_groups, beside, chain, plain_credit, plain_form, plain_slow, plain_way, random_groups
-from tests.samples import NO_NUMBERS
+from tests.samples import NO_NUMBERS, spoil
 
 
 def no_things(n):
@@ -217,19 +217,12 @@ class Keeping(FindsCase):
         return (lambda groups: find_top(groups, 0), lambda groups: (link_tops(groups, 3, 4),),
                 lambda groups: join_groups(groups, 0, 1), lambda groups: join_groups(groups, 0, 4))
 
-    def spoil(self, told):
-        for part in told:
-            if isinstance(part, list):
-                part.append("spoilt")
-            elif isinstance(part, tuple):
-                self.spoil(part)
-
     def test_told_lists_belong_to_the_asker(self):
         groups = ([1, 2, 3, 3, 4], [0, 1, 2, 3, 0])
         for deed in self.deeds():
             handed = copy.deepcopy(groups)
             wanted = copy.deepcopy(deed(handed))
-            self.spoil(deed(handed))
+            spoil(deed(handed))
             self.assertEqual(handed, groups)
             self.assertEqual(deed(handed), wanted)
 

@@ -7,7 +7,7 @@ import unittest
 from creditworks.errors import CreditError, Empty
 from creditworks.ledgers import Ledger
 from creditworks.queues import queue_credit, queue_put, queue_row, queue_take
-from tests.samples import THINGS
+from tests.samples import THINGS, spoil
 
 
 def some_queues():
@@ -126,16 +126,9 @@ class Keeping(QueueCase):
             for deed in (lambda handed: queue_put(handed, 9), queue_take, lambda handed: (queue_row(handed),)):
                 handed = copy.deepcopy(queue)
                 wanted = copy.deepcopy(deed(handed))
-                self.spoil(deed(handed))
+                spoil(deed(handed))
                 self.assertEqual(handed, queue)
                 self.assertEqual(deed(handed), wanted)
-
-    def spoil(self, told):
-        for part in told:
-            if isinstance(part, list):
-                part.append("spoilt")
-            elif isinstance(part, tuple):
-                self.spoil(part)
 
     def test_what_is_done_to_the_handed_queue_changes_no_answer(self):
         for deed in (lambda handed: queue_put(handed, 9), queue_take, queue_row):
